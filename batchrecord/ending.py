@@ -1,9 +1,6 @@
-"""Whether and how a record can be ended.
+"""Whether and how a record can be ended."""
 
-Options are a dict: for each step that wants a person, the persons it can still be given, rising.
-"""
-
-from batchrecord.plans import partners
+from batchrecord.filling import can_fill
 from batchrecord.state import goes_with, may_do, present_persons, room_of, unsigned_steps
 
 
@@ -37,39 +34,6 @@ def without_persons(options, persons):
     for step in options:
         narrower[step] = [person for person in options[step] if person not in persons]
     return narrower
-
-
-def options_behind(plan, options, step, person, full):
-    """The options of the other steps once a step is given to a person, who then may be full."""
-    unlike = partners(plan.pairs["unlike"], step)
-    alike = partners(plan.pairs["alike"], step)
-    narrower = {}
-    for other in options:
-        if other != step:
-            persons = options[other]
-            if other in alike:
-                persons = [each for each in persons if each == person]
-            if other in unlike or full:
-                persons = [each for each in persons if each != person]
-            narrower[other] = persons
-    return narrower
-
-
-def can_fill(plan, options, rooms):
-    """Whether each step can be given one of its persons, nobody beyond their room.
-
-    The step with the fewest persons goes first, so that a dead end shows early. This calls itself
-    once for each step at most, so never more than seven deep.
-    """
-    if not options:
-        return True
-    step = min(list(options), key=lambda each: len(options[each]))
-    for person in options[step]:
-        left = list(rooms)
-        left[person] -= 1
-        if can_fill(plan, options_behind(plan, options, step, person, left[person] == 0), left):
-            return True
-    return False
 
 
 def fillable(record, options):

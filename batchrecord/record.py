@@ -1,22 +1,31 @@
 """The calls on a record, and the one list in which they stand."""
 
+from batchrecord.amending import amendment_count, amendments_of, is_signature, put_amendment, viewed
+from batchrecord.counting import count_ways
 from batchrecord.ending import can_be_ended, core_steps, first_way, needed_persons
 from batchrecord.lines import tell_text
 from batchrecord.plans import Plan
-from batchrecord.showing import shown_text
+from batchrecord.showing import listed, shown_names, shown_text
 from batchrecord.signing import bar_of, free_signers, put_signature
-from batchrecord.state import Record, unsigned_steps
+from batchrecord.state import Record, absent_persons, unsigned_steps
 
 LOAD = 0
 AMEND = 8
 LONGEST_TEXT = 4000
+LONGEST_AMENDMENT = 60
+MOST_AMENDMENTS = 40
+MOST_COUNTED = 6
 GREATEST_BYTE = 255
 
 NO_SUCH = -1
 NO_RECORD = -2
+NO_MORE = -3
 NOT_SO = -4
 CANT_END = -7
+TOO_MANY_LEFT = -7
 BARRED = -10
+IS_ABSENT = -13
+SIGNED_IT = -14
 WRONG_TEXT = -1000
 
 # How many whole numbers each call has, at the call's own number.
@@ -64,11 +73,6 @@ def is_step(record, number):
 def is_person(record, number):
     """Whether a number is a person's."""
     return 0 <= number < len(record.plan.persons)
-
-
-def listed(numbers):
-    """A text or a list as it stands in an answer."""
-    return [len(numbers)] + numbers
 
 
 def load(desk, text):
@@ -146,8 +150,68 @@ def who(record, call):
     return listed(free_signers(record, step))
 
 
-# The calls on a record that are built so far, by their numbers.
-BUILT = {1: shown, 2: sign, 3: set_absent, 4: plan_end, 5: core, 6: needed, 7: who}
+def amend(record, call):
+    """Give a signature another text, by a person who is here and did not sign it."""
+    number = call.numbers[0]
+    person = call.numbers[1]
+    if not is_signature(record, number) or not is_person(record, person):
+        return [NO_SUCH]
+    if not is_text(call.text, LONGEST_AMENDMENT):
+        return [NO_SUCH]
+    if record.absent[person]:
+        return [IS_ABSENT]
+    if record.entries[number].person == person:
+        return [SIGNED_IT]
+    if amendment_count(record) == MOST_AMENDMENTS:
+        return [NO_MORE]
+    return [put_amendment(record, number, person, call.text)]
+
+
+def view(record, call):
+    """The first entries, as they stood when there were no others."""
+    count = call.numbers[0]
+    if not 0 <= count <= len(record.entries):
+        return [NO_SUCH]
+    return [count] + viewed(record, count)
+
+
+def history(record, call):
+    """The entries that amend a signature."""
+    number = call.numbers[0]
+    if not is_signature(record, number):
+        return [NO_SUCH]
+    return listed(amendments_of(record, number))
+
+
+def may(record, call):
+    """What bars signing a step by a person."""
+    step = call.numbers[0]
+    person = call.numbers[1]
+    if not is_step(record, step) or not is_person(record, person):
+        return [NO_SUCH]
+    return [bar_of(record, step, person)]
+
+
+def released(record, call):
+    """Whether all steps are signed."""
+    return [0 if unsigned_steps(record) else 1]
+
+
+def ways(record, call):
+    """In how many ways the record can be ended."""
+    if len(unsigned_steps(record)) > MOST_COUNTED:
+        return [TOO_MANY_LEFT]
+    return [count_ways(record)]
+
+
+def names(record, call):
+    """What the plan names, and who is absent."""
+    return shown_names(record.plan) + listed(absent_persons(record))
+
+
+# The calls on a record, by their numbers.
+ON_A_RECORD = {1: shown, 2: sign, 3: set_absent, 4: plan_end, 5: core, 6: needed, 7: who, 8: amend, 9: view,
+               10: history, 11: may, 12: released, 13: ways, 14: names}
 
 
 def answer_to(desk, call):
@@ -156,9 +220,7 @@ def answer_to(desk, call):
         return load(desk, call.text)
     if desk.record is None:
         return [NO_RECORD]
-    if call.number not in BUILT:
-        raise NotImplementedError("this call is not built yet")
-    return BUILT[call.number](desk.record, call)
+    return ON_A_RECORD[call.number](desk.record, call)
 
 
 def answers(calls):

@@ -1,6 +1,16 @@
-"""Writing a plan down as a text."""
+"""Writing a plan down: as a text, and by the names in it."""
 
 from batchrecord.plans import PAIR_WORDS, UNTOLD_MOST
+
+
+def listed(numbers):
+    """A text or a list as it stands in an answer."""
+    return [len(numbers)] + numbers
+
+
+def bytes_of(signs):
+    """The bytes of signs."""
+    return [ord(sign) for sign in signs]
 
 
 def role_names(plan, roles):
@@ -35,5 +45,19 @@ def shown_text(plan):
     lines = [["role", name] for name in plan.roles] + person_lines(plan) + step_lines(plan)
     text = []
     for words in lines:
-        text.extend([ord(sign) for sign in " ".join(words) + "\n"])
+        text.extend(bytes_of(" ".join(words) + "\n"))
     return text
+
+
+def shown_names(plan):
+    """The roles, persons and steps of a plan as they stand in an answer."""
+    answer = [len(plan.roles)]
+    for name in plan.roles:
+        answer.extend(listed(bytes_of(name)))
+    answer.append(len(plan.persons))
+    for name, roles, most in zip(plan.persons, plan.person_roles, plan.mosts):
+        answer.extend(listed(bytes_of(name)) + listed(roles) + [most])
+    answer.append(len(plan.steps))
+    for name, roles in zip(plan.steps, plan.step_roles):
+        answer.extend(listed(bytes_of(name)) + listed(roles))
+    return answer

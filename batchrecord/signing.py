@@ -2,7 +2,7 @@
 
 from batchrecord.ending import can_be_ended_with
 from batchrecord.plans import told_before
-from batchrecord.state import goes_with, may_do
+from batchrecord.state import SIGNATURE, Entry, goes_with, may_do, put_entry
 
 NOTHING = 0
 SIGNED = 1
@@ -35,5 +35,4 @@ def free_signers(record, step):
 def put_signature(record, step, person):
     """Make a signature an entry, and give the entry's number."""
     record.signers[step] = person
-    record.entries.append((step, person))
-    return len(record.entries) - 1
+    return put_entry(record, Entry(SIGNATURE, step, person, []))

@@ -1,6 +1,19 @@
-"""A record as it stands: its plan, who is absent, what is signed and by whom."""
+"""A record as it stands: its plan, who is absent, its entries, what is signed and by whom."""
 
 from batchrecord.plans import partners
+
+SIGNATURE = 0
+AMENDMENT = 1
+
+
+class Entry:
+    """A signature of a step, or an amendment of an entry that is a signature: which, of what, by whom, its text."""
+
+    def __init__(self, kind, target, person, text):
+        self.kind = kind
+        self.target = target
+        self.person = person
+        self.text = text
 
 
 class Record:
@@ -21,6 +34,17 @@ def unsigned_steps(record):
 def present_persons(record):
     """The persons who are not absent, rising."""
     return [person for person, absent in enumerate(record.absent) if not absent]
+
+
+def absent_persons(record):
+    """The persons who are absent, rising."""
+    return [person for person, absent in enumerate(record.absent) if absent]
+
+
+def put_entry(record, entry):
+    """Put an entry behind the others, and give its number."""
+    record.entries.append(entry)
+    return len(record.entries) - 1
 
 
 def room_of(record, person):

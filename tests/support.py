@@ -44,6 +44,36 @@ def amend(entry, person, text):
     return [8, entry, person, len(text)] + list(text)
 
 
+def view(count):
+    return [9, count]
+
+
+def history(entry):
+    return [10, entry]
+
+
+def may(step, person):
+    return [11, step, person]
+
+
+def released():
+    return [12]
+
+
+def ways():
+    return [13]
+
+
+def names():
+    return [14]
+
+
+def free(persons, steps, more=""):
+    """A load of persons p0.. and steps s0.. of one role, and more lines."""
+    lines = "".join(f"person p{k} op\n" for k in range(persons)) + "".join(f"step s{k} by op\n" for k in range(steps))
+    return load("role op\n" + lines + more)
+
+
 def ask(*calls):
     """Hand the calls over as one list, and part the answers again."""
     numbers = []

@@ -2,16 +2,10 @@
 
 import unittest
 
-from tests.support import (ANN, BATCH, BOB, CHECK, CID, FILL, GREATEST, LEAST, MIX, PACK, absent, ask, core, last, load,
-                           needed, plan, sign, who)
+from tests.support import (ANN, BATCH, BOB, CHECK, CID, FILL, GREATEST, LEAST, MIX, PACK, absent, ask, core, free, last,
+                           load, needed, plan, sign, who)
 
 SIGNED = [sign(MIX, ANN), sign(FILL, ANN), sign(CHECK, BOB), sign(PACK, CID)]
-
-
-def free(persons, steps, more=""):
-    """A load of persons p0.. and steps s0.. of one role, and more lines."""
-    names = "".join(f"person p{k} op\n" for k in range(persons)) + "".join(f"step s{k} by op\n" for k in range(steps))
-    return load("role op\n" + names + more)
 
 
 class Plan(unittest.TestCase):

@@ -5,8 +5,8 @@ import io
 import unittest
 
 from batchrecord.record import answers
-from tests.support import (GREATEST, LEAST, absent, amend, ask, core, load, needed, parted, plan, shown, sign,
-                           text_answer, who)
+from tests.support import (GREATEST, LEAST, absent, amend, ask, core, history, load, may, names, needed, parted, plan,
+                           released, shown, sign, text_answer, view, ways, who)
 
 TEXT = "role op\nperson ann op\nperson bob op\nstep mix by op\nstep fill by op\nunlike mix fill\n"
 LOADED = load(TEXT)
@@ -25,7 +25,9 @@ class Untouchable(list):
 def every_call():
     """A list with each of the calls in it, some of them refused."""
     return (LOADED + shown() + sign(0, 0) + sign(0, 0) + sign(9, 9) + absent(1, 1) + plan() + core() + needed()
-            + who(1) + absent(1, 0) + plan() + core() + needed() + who(1) + load("wrong") + sign(1, 1) + needed())
+            + who(1) + absent(1, 0) + plan() + core() + needed() + who(1) + load("wrong") + sign(1, 1) + needed()
+            + amend(0, 1, [7, 0]) + amend(0, 0, [7]) + view(3) + view(4) + history(0) + history(2) + may(0, 1)
+            + may(2, 0) + released() + ways() + names())
 
 
 class Framing(unittest.TestCase):
@@ -44,17 +46,27 @@ class Framing(unittest.TestCase):
     def test_each_call_behind_another(self):
         expected = ([3, 1, 2, 2] + [len(TEXT) + 1] + text_answer(TEXT) + [1, 0] + [1, -11] + [1, -1] + [1, 0]
                     + [1, -4] + [2, 1, 1] + [1, 0] + [1, 0] + [1, 1] + [3, 1, 1, 1] + [1, -4] + [2, 1, 1]
-                    + [2, 1, 1] + [1, -1101] + [1, 1] + [1, -4])
+                    + [2, 1, 1] + [1, -1101] + [1, 1] + [1, -4] + [1, 2] + [1, -14]
+                    + [17, 3, 0, 0, 0, 2, 7, 0, 0, 1, 1, 0, 1, 0, 1, 2, 7, 0] + [1, -1] + [2, 1, 2] + [1, -1] + [1, 1]
+                    + [1, -1] + [1, 1] + [1, 1]
+                    + [34, 1, 2, 111, 112, 2, 3, 97, 110, 110, 1, 0, 99, 3, 98, 111, 98, 1, 0, 99,
+                       2, 3, 109, 105, 120, 1, 0, 4, 102, 105, 108, 108, 1, 0, 0])
         self.assertEqual(answers(every_call()), expected)
 
     def test_a_text_that_looks_like_calls(self):
         self.assertEqual(answers([0, 4, 1, 1, 1, 1, 1]), [1, -1101, 1, -2])
         self.assertEqual(answers([0, 3, 0, 0, 256, 0, 0, 4]), [1, -1, 3, 0, 0, 0, 1, 0])
+        self.assertEqual(answers(LOADED + [2, 0, 0, 8, 0, 1, 3, 8, 0, 1, 12]), [3, 1, 2, 2, 1, 0, 1, 1, 1, 0])
+        self.assertEqual(answers(LOADED + [2, 0, 0, 8, 0, 1, 0, 12]), [3, 1, 2, 2, 1, 0, 1, 1, 1, 0])
+        self.assertEqual(answers(LOADED + [2, 0, 0, 8, 0, 1, 2, 12, -12, 12]), [3, 1, 2, 2, 1, 0, 1, -1, 1, 0])
 
     def test_ends_of_the_range(self):
         for number in (LEAST, GREATEST):
             self.assertEqual(answers(LOADED + [2, number, 0, 2, 0, number, 3, number, 0, 3, 0, number, 7, number]),
                              [3, 1, 2, 2, 1, -1, 1, -1, 1, -1, 1, -1, 1, -1])
+            self.assertEqual(answers(LOADED + [2, 0, 0, 8, number, 1, 0, 8, 0, number, 0, 8, 0, 1, 1, number, 9, number,
+                                               10, number, 11, number, 0, 11, 0, number]),
+                             [3, 1, 2, 2, 1, 0] + [1, -1] * 7)
 
     def test_longest_list(self):
         calls = load([32] * 5000) + load([256] * 5000) + load("\n" * 4000) + load([10] * 1983) + shown() * 8
@@ -74,7 +86,8 @@ class Framing(unittest.TestCase):
 
 class NoRecord(unittest.TestCase):
     CALLS = [shown(), sign(0, 0), sign(-1, 9), absent(0, 1), absent(0, 2), plan(), core(), needed(), who(0), who(-1),
-             amend(0, 0, [65]), amend(-1, -1, [256] * 61), [9, 0], [10, 0], [11, 0, 0], [12], [13], [14]]
+             amend(0, 0, [65]), amend(0, 0, []), amend(-1, -1, [256] * 61), view(0), view(-1), view(1), history(0),
+             history(-1), may(0, 0), may(-1, 9), released(), ways(), names()]
 
     def test_ahead_of_the_first_load(self):
         for call in self.CALLS:

@@ -80,7 +80,8 @@ class NoSuchLine(Loading):
             self.answers_to(NAMED + line, -1501)
 
     def test_no_known_first_word(self):
-        self.wrong("roles a", "Role a", "x", "by", "rol a", "1", "?", "role? a", "plan a", "#", "before mix fill")
+        self.wrong("roles a", "Role a", "x", "by", "rol a", "1", "?", "role? a", "plan a", "#", "before mix fill",
+                   "least ann 2", "mosts ann 2", "ann mix fill")
 
     def test_role(self):
         self.wrong("role", "role qa op", "role Qa", "role 1a", "role q-a", "role q_a", "role q?", "role qA")

@@ -4,7 +4,8 @@ import itertools
 import random
 import unittest
 
-from tests.support import absent, ask, core, load, needed, plan, sign, who
+from tests.support import (absent, amend, ask, core, history, load, may, names, needed, plan, released, sign,
+                           text_answer, view, ways, who)
 
 
 class Reference:
@@ -21,7 +22,7 @@ class Reference:
         self.after = [(high, low) for low, high in couples if source.random() < 0.12]
         self.absent = set()
         self.signers = {}
-        self.entries = 0
+        self.entries = []
 
     def some_roles(self, source, fewest):
         return sorted(source.sample(range(self.roles), source.randint(fewest, self.roles)))
@@ -78,8 +79,54 @@ class Reference:
         if bar:
             return [-10 - bar]
         self.signers[step] = person
-        self.entries += 1
-        return [self.entries - 1]
+        return self.put(0, step, person, [])
+
+    def put(self, *entry):
+        self.entries.append(entry)
+        return [len(self.entries) - 1]
+
+    def signatures(self):
+        return [number for number, entry in enumerate(self.entries) if entry[0] == 0]
+
+    def amend(self, number, person, text):
+        if number not in self.signatures() or person not in range(len(self.persons)):
+            return [-1]
+        if person in self.absent:
+            return [-13]
+        if self.entries[number][2] == person:
+            return [-14]
+        return self.put(1, number, person, text)
+
+    def view(self, count):
+        if count > len(self.entries):
+            return [-1]
+        texts = {}
+        for number, (kind, target, person, text) in enumerate(self.entries[:count]):
+            texts[number] = text
+            if kind == 1:
+                texts[target] = text
+        answer = [count]
+        for number, (kind, target, person, text) in enumerate(self.entries[:count]):
+            answer += [kind, target, person, len(texts[number])] + texts[number]
+        return answer
+
+    def history(self, number):
+        if number not in self.signatures():
+            return [-1]
+        found = [each for each, entry in enumerate(self.entries) if entry[:2] == (1, number)]
+        return [len(found)] + found
+
+    def names(self):
+        answer = [self.roles]
+        for k in range(self.roles):
+            answer += text_answer(f"r{k}")
+        answer += [len(self.persons)]
+        for k, has in enumerate(self.persons):
+            answer += text_answer(f"p{k}") + [len(has)] + has + [self.mosts[k]]
+        answer += [len(self.steps)]
+        for k, by in enumerate(self.steps):
+            answer += text_answer(f"s{k}") + [len(by)] + by
+        return answer + [len(self.absent)] + sorted(self.absent)
 
     def set_absent(self, person, away):
         (self.absent.add if away else self.absent.discard)(person)
@@ -125,19 +172,29 @@ def made_up(source):
     if not record.can_be_ended():
         return calls, [[-7]]
     expected = [[record.roles, len(record.persons), len(record.steps)]]
-    for turn in range(12):
+    for turn in range(9):
         step = source.randrange(len(record.steps))
         person = source.randrange(len(record.persons))
-        if source.random() < 0.3:
+        kind = source.random()
+        if kind < 0.3:
+            number = source.randint(-1, len(record.entries))
+            text = [source.randint(0, 255) for each in range(source.randint(0, 3))]
+            calls.append(amend(number, person, text))
+            expected.append(record.amend(number, person, text))
+        elif kind < 0.5:
             away = source.randint(0, 1)
             calls.append(absent(person, away))
             expected.append(record.set_absent(person, away))
         else:
             calls.append(sign(step, person))
             expected.append(record.sign(step, person))
-        calls += [plan(), core(), needed(), who(step)]
-        expected += [record.plan(), record.core(), record.needed(), record.who(step)]
-    return calls, expected
+        calls += [plan(), core(), needed(), who(step), may(step, person), ways(), released()]
+        expected += [record.plan(), record.core(), record.needed(), record.who(step), [record.barred(step, person)],
+                     [len(list(record.ways(record.unsigned())))], [int(not record.unsigned())]]
+    for number in range(len(record.entries) + 2):
+        calls += [view(number), history(number)]
+        expected += [record.view(number), record.history(number)]
+    return calls + [names()], expected + [record.names()]
 
 
 class BesideTheReference(unittest.TestCase):
